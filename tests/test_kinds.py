@@ -1,0 +1,27 @@
+"""Point 2: what a number is, and that a truth is none."""
+
+import unittest
+
+from fuseboard.kinds import is_number
+
+
+class Numbers(unittest.TestCase):
+    def test_whole_numbers_from_0_on_of_at_most_sixty_figures(self):
+        for thing in (0, 1, 2, 10 ** 59, 10 ** 60 - 1):
+            self.assertIs(is_number(thing), True)
+
+    def test_other_whole_numbers(self):
+        for thing in (-1, -10 ** 59, -10 ** 70, 10 ** 60, 10 ** 60 + 1, 10 ** 5000):
+            self.assertIs(is_number(thing), False)
+
+    def test_truths(self):
+        self.assertIs(is_number(True), False)
+        self.assertIs(is_number(False), False)
+
+    def test_things_of_other_kinds(self):
+        for thing in (None, "", "1", b"1", 1.0, 1j, (), (1,), [], [1], {}, {1: 1}, {1}, object(), int):
+            self.assertIs(is_number(thing), False)
+
+
+if __name__ == "__main__":
+    unittest.main()
