@@ -1,6 +1,7 @@
 """What kind of thing a thing is, for all modules alike."""
 
 NUMBERS_END = 10 ** 60
+LONGEST_NAME = 8
 
 
 def is_number(thing):
@@ -9,3 +10,14 @@ def is_number(thing):
     if isinstance(thing, bool) or not isinstance(thing, int):
         return False
     return 0 <= thing < NUMBERS_END
+
+
+def is_name(thing):
+    """Whether a thing is a text of one to eight small letters, a to z."""
+    if not isinstance(thing, str) or not 1 <= len(thing) <= LONGEST_NAME:
+        return False
+    # Small letters of other alphabets are none here, so islower won't do.
+    for sign in thing:
+        if not "a" <= sign <= "z":
+            return False
+    return True
