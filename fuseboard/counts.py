@@ -28,10 +28,14 @@ class Counts:
 
     def full(self, more):
         """Whether a step's count is no less than its turns and these turns more together."""
-        for step, count in zip(self.curve, self.counts):
-            if count >= step[1] + more:
-                return True
-        return False
+        return self.full_step(more) is not None
+
+    def full_step(self, more):
+        """The place of the first step whose count is so; None where none is."""
+        for at, count in enumerate(self.counts):
+            if count >= self.curve[at][1] + more:
+                return at
+        return None
 
     def until(self, draw, more):
         """Behind how many turns of this draw a turn's end first finds the counts full; None where never."""

@@ -55,6 +55,18 @@ def small_board(rng, most_guards=6, most_loads=5, most=6):
     return tuple(guards), tuple(loads)
 
 
+def small_and_large(rng, great):
+    """A board of small numbers, and the same with all turns so many times as great."""
+    # Without waits no counts are full ahead of an opening, so a run's turns grow just like the board's.
+    guards, loads = small_board(rng)
+    small = (tuple((*guard[:4], 0) for guard in guards), loads)
+    large = (tuple((name, under, tuple((draw, turns * great) for draw, turns in curve), delay * great, 0)
+                   for name, under, curve, delay, wait in guards),
+             tuple((name, at, tuple((turns * great, draw) for turns, draw in course), last, switch)
+                   for name, at, course, last, switch in loads))
+    return small, large
+
+
 def small_curve(rng, most):
     many = rng.randint(1, 3)
     draws = sorted(rng.sample(range(1, 2 * most + 2), many))
@@ -95,3 +107,150 @@ def awake(board, found):
 
 def held(board, found, name):
     return any(guard[1] == name and guard[0] in awake(board, found) for guard in board[0])
+
+
+# Points 13 to 17, turn by turn.
+
+class PlainRun:
+    """A run gone turn by turn, with a record of each turn that is over."""
+
+    def __init__(self, board, stuck=()):
+        self.board = board
+        self.stuck = stuck
+        self.now = 0
+        self.opened = set()
+        self.on = {load[0]: load[4] for load in board[1]}
+        self.faults = {place: 0 for place in places(board)}
+        self.counts = {guard[0]: [0] * len(guard[2]) for guard in board[0]}
+        self.drawing = {load[0]: load[4] for load in board[1]}
+        # How many turns of its course each load has behind it: more than any course has, at the beginning.
+        self.age = {load[0]: 10 ** 9 for load in board[1]}
+        self.openings = []
+        self.turns = []
+
+    def fed(self, place):
+        return fed(self.board, self.opened, place)
+
+    def do(self, deed):
+        if deed[0] == "fault":
+            self.faults[deed[1]] = deed[2]
+        if deed[0] in ("on", "off"):
+            self.on[deed[1]] = deed[0] == "on"
+        if deed[0] == "open":
+            self.opened.add(deed[1])
+        if deed[0] == "close":
+            self.opened.discard(deed[1])
+        self.look()
+
+    def look(self):
+        """What is so from the moment on in which a guard is not fed, or a load comes to be on and fed."""
+        for guard in self.board[0]:
+            if not self.fed(guard[0]):
+                self.counts[guard[0]] = [0] * len(guard[2])
+        for load in self.board[1]:
+            drawing = self.on[load[0]] and self.fed(load[0])
+            if drawing and not self.drawing[load[0]]:
+                self.age[load[0]] = 0
+            self.drawing[load[0]] = drawing
+
+    def stage(self, load):
+        """Which stretch of its course a load is at, and what it draws in it."""
+        turns = [(at, draw) for at, (many, draw) in enumerate(load[2]) for _ in range(many)]
+        age = self.age[load[0]]
+        return turns[age] if age < len(turns) else (len(load[2]), load[3])
+
+    def pulls(self):
+        found = {guard[0]: self.faults[guard[0]] for guard in self.board[0]}
+        for load in self.board[1]:
+            found[load[0]] = self.faults[load[0]] if self.on[load[0]] else 0
+            if self.drawing[load[0]]:
+                found[load[0]] += self.stage(load)[1]
+        return found
+
+    def draws(self):
+        return draws(self.board, self.opened, self.pulls())
+
+    def closed(self):
+        return [guard[0] for guard in self.board[0] if guard[0] not in self.opened]
+
+    def dark(self):
+        return [load[0] for load in self.board[1] if self.on[load[0]] and not self.fed(load[0])]
+
+    def one_turn(self):
+        """The turn that is now is over then."""
+        found, pulls = self.draws(), self.pulls()
+        record = {
+            "draws": found,
+            "straight": {place: pulls[place] if self.fed(place) else 0 for place in pulls},
+            "dark": self.dark(),
+            "stages": {load[0]: self.stage(load)[0] for load in self.board[1] if self.drawing[load[0]]},
+            "opened": {},
+        }
+        for name, _, curve, delay, wait in self.board[0]:
+            if name in self.opened:
+                continue
+            self.counts[name] = [count + 1 if found[name] >= step[0] else 0
+                                 for count, step in zip(self.counts[name], curve)]
+            more = delay + (wait if held(self.board, found, name) else 0)
+            full = [(at, self.now + 1 - count) for at, count in enumerate(self.counts[name])
+                    if count >= curve[at][1] + more]
+            if full and name not in self.stuck:
+                record["opened"][name] = full
+        for load in self.age:
+            self.age[load] += 1
+        self.turns.append(record)
+        if record["opened"]:
+            self.openings.append((self.now, tuple(record["opened"])))
+            self.opened |= set(record["opened"])
+            self.look()
+        self.now += 1
+
+    def go(self, turn):
+        while self.now < turn:
+            self.one_turn()
+
+    def through(self, guard):
+        return sum(record["draws"][guard] for record in self.turns)
+
+    def drawn(self, place):
+        return sum(record["straight"][place] for record in self.turns)
+
+    def darkness(self, load):
+        turns = [at for at, record in enumerate(self.turns) if load in record["dark"]]
+        firsts = [at for at in turns if at - 1 not in turns]
+        lasts = [at for at in turns if at + 1 not in turns]
+        return list(zip(firsts, lasts))
+
+
+def plain_run(board, stuck, events, upto):
+    """A plain run gone up to a turn, with the events ahead of it."""
+    run = PlainRun(board, stuck or ())
+    for turn, deed in events:
+        if turn < upto:
+            run.go(turn)
+            run.do(deed)
+    run.go(upto)
+    return run
+
+
+def some_deed(rng, board, most=12):
+    """A deed by chance."""
+    word = rng.choice(("fault", "fault", "on", "on", "off", "close", "close", "open"))
+    if word == "fault":
+        return word, rng.choice(places(board)), rng.choice((0, rng.randint(1, 3), rng.randint(1, most)))
+    rows = board[1] if word in ("on", "off") and board[1] else board[0]
+    if rows == board[0] and word in ("on", "off"):
+        word = "close"
+    return word, rng.choice(rows)[0]
+
+
+def some_events(rng, board, most_many=12, most_turn=30):
+    """Events by chance, some of them in one turn."""
+    turns = sorted(rng.randint(0, most_turn) for _ in range(rng.randint(0, most_many)))
+    return [(turn, some_deed(rng, board)) for turn in turns]
+
+
+def some_stuck(rng, board):
+    """Some stuck guards by chance: None, or a list or tuple, perhaps with some more than once."""
+    names = [guard[0] for guard in board[0]]
+    return rng.choice((None, [], (), [rng.choice(names)], (rng.choice(names),) * 2))

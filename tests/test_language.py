@@ -48,6 +48,13 @@ def bound(node):
     return []
 
 
+def module_bound(node):
+    """The nodes by which a statement at module level binds names there."""
+    if isinstance(node, ast.ImportFrom):
+        return node.names
+    return node.targets if isinstance(node, ast.Assign) else [node]
+
+
 class Files(unittest.TestCase):
     def test_plain_names_and_nothing_else(self):
         self.assertIn(PACKAGE / "__init__.py", FILES)
@@ -137,6 +144,19 @@ class Names(unittest.TestCase):
                 else:
                     self.assertFalse(word.startswith("_"), (name, word))
                     self.assertFalse(word in vars(builtins), (name, word))
+
+    def test_a_name_is_bound_once_at_module_level(self):
+        for path, tree in trees():
+            words = [word for node in tree.body for part in module_bound(node) for word in bound(part)]
+            self.assertEqual(len(words), len(set(words)), path.name)
+
+    def test_no_local_name_is_an_import_or_a_class_of_its_file(self):
+        for path, tree in trees():
+            taken = {word for node in tree.body if isinstance(node, (ast.ImportFrom, ast.ClassDef))
+                     for part in module_bound(node) for word in bound(part)}
+            for part in ast.walk(tree):
+                if isinstance(part, (ast.arg, ast.Name, ast.ExceptHandler)):
+                    self.assertFalse(taken & set(bound(part)), (path.name, bound(part)))
 
     def test_attributes_are_plain(self):
         for name, node in nodes(ast.Attribute):
