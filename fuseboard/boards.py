@@ -99,6 +99,11 @@ def loads_of(board):
     return names_of(board[1])
 
 
+def places_of(board):
+    """The names of the guards, then of the loads."""
+    return guards_of(board) + loads_of(board)
+
+
 # What is handed in as a place may be any thing; only texts are held against
 # the names, so nothing that can't be compared or counted is.
 

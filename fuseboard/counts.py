@@ -28,14 +28,11 @@ class Counts:
 
     def full(self, more):
         """Whether a step's count is no less than its turns and these turns more together."""
-        return self.full_step(more) is not None
+        return len(self.full_steps(more)) > 0
 
-    def full_step(self, more):
-        """The place of the first step whose count is so; None where none is."""
-        for at, count in enumerate(self.counts):
-            if count >= self.curve[at][1] + more:
-                return at
-        return None
+    def full_steps(self, more):
+        """The places of all steps whose counts are so."""
+        return [at for at, count in enumerate(self.counts) if count >= self.curve[at][1] + more]
 
     def until(self, draw, more):
         """Behind how many turns of this draw a turn's end first finds the counts full; None where never."""

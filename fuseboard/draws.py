@@ -2,7 +2,7 @@
 
 from fuseboard.boards import has_guard, over
 from fuseboard.curves import least_of
-from fuseboard.errors import NoPlace
+from fuseboard.errors import Loud, NoPlace
 
 
 def fed(board, opened, place):
@@ -71,3 +71,11 @@ def loud(board):
     """The first guard that is awake at rest; None where the board is quiet."""
     names = awake(board, rest(board))
     return names[0] if names else None
+
+
+def quiet_rest(board):
+    """Each guard's draw at rest of a quiet board; else refused with Loud."""
+    first = loud(board)
+    if first is not None:
+        raise Loud(first)
+    return rest(board)

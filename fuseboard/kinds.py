@@ -4,12 +4,15 @@ NUMBERS_END = 10 ** 60
 LONGEST_NAME = 8
 
 
+def is_whole(thing):
+    """Whether a thing is a whole number, of any size."""
+    # A truth is an int to Python, but no number here.
+    return isinstance(thing, int) and not isinstance(thing, bool)
+
+
 def is_number(thing):
     """Whether a thing is a whole number from 0 on of at most sixty figures."""
-    # A truth is an int to Python, but no number here.
-    if isinstance(thing, bool) or not isinstance(thing, int):
-        return False
-    return 0 <= thing < NUMBERS_END
+    return is_whole(thing) and 0 <= thing < NUMBERS_END
 
 
 def is_name(thing):

@@ -1,6 +1,6 @@
 """Runs: a board that goes on by turns, with deeds, faults and guards that open by themselves."""
 
-from fuseboard.boards import guards_of, has_guard, has_load, has_place, loads_of
+from fuseboard.boards import guards_of, has_guard, has_load, has_place, loads_of, places_of
 from fuseboard.counts import Counts
 from fuseboard.deeds import is_deed
 from fuseboard.draws import draws_fed, fed_guards, held_guards
@@ -27,21 +27,21 @@ class Run:
     """A run of a board, from rest on; it goes by stretches of turns in which nothing changes."""
 
     def __init__(self, board, stuck=None):
-        guards, loads = guards_of(board), loads_of(board)
+        guards, loads, places = guards_of(board), loads_of(board), places_of(board)
         self.plan = board
         self.stuck = [] if stuck is None else list(stuck)
         self.now = 0
         self.apart = {name: False for name in guards}
         self.lit = {name: True for name in guards}
         self.switches = {load[0]: load[4] for load in board[1]}
-        self.faults = {name: 0 for name in guards + loads}
+        self.faults = {name: 0 for name in places}
         self.counts = {guard[0]: Counts(guard[2]) for guard in board[0]}
         # Loads that are on and fed, and the turn in which the course of each began; None: it is past from the first.
         self.live = dict(self.switches)
         self.begun = {name: None for name in loads}
         self.trips = []
         self.guard_sums = {name: 0 for name in guards}
-        self.place_sums = {name: 0 for name in guards + loads}
+        self.place_sums = {name: 0 for name in places}
         self.dark_turns = {name: [] for name in loads}
 
     def turn(self):
@@ -134,7 +134,10 @@ class Run:
         return found
 
     def stretch(self, end):
-        """One stretch of turns from now on, none beyond end, in which nothing changes; told as a paper has it."""
+        """One stretch of turns from now on, none beyond end, in which nothing changes.
+
+        Told as a paper has it, but for those that open, which are told with all their full steps.
+        """
         begin = self.now
         pulled = self.pulls()
         found = draws_fed(self.plan, self.lit, pulled)
@@ -177,13 +180,14 @@ class Run:
             self.dark_turns[name] = with_stretch(self.dark_turns[name], self.now, self.now + many - 1)
 
     def ripe(self, mores):
-        """The guards that open now that a turn is over: (guard, step, since), in order."""
+        """The guards that open now that a turn is over, in order, each with all its full steps: (step, since)."""
         found = []
         for name in guards_of(self.plan):
-            step = self.counts[name].full_step(mores[name])
-            if step is not None and name not in self.stuck:
-                found.append((name, step, self.now - self.counts[name].told()[step]))
-        return tuple(found)
+            told = self.counts[name].told()
+            steps = self.counts[name].full_steps(mores[name])
+            if steps and name not in self.stuck:
+                found.append((name, [(step, self.now - told[step]) for step in steps]))
+        return found
 
     def trip(self, names):
         """These guards open by themselves, together, when the last turn is over."""

@@ -1,5 +1,7 @@
 """The one helper of the tests: the document's words said once more, as plainly and slowly as can be, and boards."""
 
+import functools
+
 GREATEST = 10 ** 60 - 1
 TOO_GREAT = 10 ** 60
 
@@ -254,3 +256,88 @@ def some_stuck(rng, board):
     """Some stuck guards by chance: None, or a list or tuple, perhaps with some more than once."""
     names = [guard[0] for guard in board[0]]
     return rng.choice((None, [], (), [rng.choice(names)], (rng.choice(names),) * 2))
+
+
+# Points 12 and 20 to 24, greatness by greatness.
+
+def rest(board):
+    return draws(board, (), {load[0]: load[3] for load in board[1] if load[4]})
+
+
+def quiet_board(rng, most_guards=5, most_loads=4, most=4):
+    """A quiet board of small numbers by chance: curves of guards that were awake begin above what they draw."""
+    guards, loads = small_board(rng, most_guards, most_loads, most)
+    found = rest((guards, loads))
+    noisy = awake((guards, loads), found)
+    return tuple((name, under, tuple((draw + found[name] * (name in noisy), turns) for draw, turns in curve), delay, wait)
+                 for name, under, curve, delay, wait in guards), loads
+
+
+@functools.lru_cache(maxsize=None)
+def opening(board, place, greatness, stuck=()):
+    """The first opening of a run gone turn by turn, in which a fault comes at turn 0; None where none comes."""
+    run = PlainRun(board, stuck)
+    run.do(("fault", place, greatness))
+    longest = max(curve[0][1] + delay + wait for _, _, curve, delay, wait in board[0])
+    while not run.openings and run.now < longest:
+        run.one_turn()
+    return run.openings[0] if run.openings else None
+
+
+def astray(board, place, most, stuck=()):
+    """The least fault at a place that opens another guard than the nearest, and what it opens; or None."""
+    nearest = [name for name in over(board, place) if name not in stuck][:1]
+    for greatness in range(1, most + 1):
+        told = opening(board, place, greatness, tuple(stuck))
+        if told is not None and told[1] != tuple(nearest):
+            return greatness, told[1]
+    return None
+
+
+# Points 25 and 26.
+
+def turns_at(curve, draw):
+    return ([None] + [turns for least, turns in curve if least <= draw])[-1]
+
+
+def fault_draws(board, place, greatness):
+    """The draws at rest with a fault at a guard."""
+    pulls = {load[0]: load[3] for load in board[1] if load[4]}
+    return draws(board, (), {**pulls, place: greatness})
+
+
+def lacks(board, lower, upper, most):
+    """What the upper lacks for each fault at the lower by which both meet a step: (lack, greatness)."""
+    low, high = guard_named(board, lower), guard_named(board, upper)
+    found = []
+    for greatness in range(1, most + 1):
+        drawn = fault_draws(board, lower, greatness)
+        sooner, later = turns_at(low[2], drawn[lower]), turns_at(high[2], drawn[upper])
+        if sooner is not None and later is not None:
+            found.append((sooner - later - (high[4] if held(board, drawn, upper) else 0) + 1, greatness))
+    return found
+
+
+def pairs(board, most):
+    """Each pair with the greatest lack and the least greatness that has it."""
+    found = []
+    for guard in board[0]:
+        for upper in over(board, guard[0])[1:]:
+            rows = lacks(board, guard[0], upper, most)
+            if rows:
+                more = max(lack for lack, greatness in rows)
+                found.append((guard[0], upper, more, min(greatness for lack, greatness in rows if lack == more)))
+    return found
+
+
+def blind(board, most):
+    """All blind pairs, each with its least greatness."""
+    found = []
+    for guard in board[0]:
+        for upper in over(board, guard[0])[1:]:
+            for greatness in range(1, most + 1):
+                woken = awake(board, fault_draws(board, guard[0], greatness))
+                if upper in woken and guard[0] not in woken:
+                    found.append((guard[0], upper, greatness))
+                    break
+    return found

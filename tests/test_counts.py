@@ -172,14 +172,15 @@ class Full(unittest.TestCase):
         self.assertIs(after(THREE, (10, 1), (20, 3)).full(0), True)
         self.assertIs(after(THREE, (20, 1), (40, 1)).full(0), True)
 
-    def test_the_first_full_step(self):
-        self.assertIsNone(Counts(THREE).full_step(0))
-        self.assertIsNone(after(THREE, (20, 2)).full_step(0))
-        self.assertEqual(after(THREE, (20, 3)).full_step(0), 1)
-        self.assertIsNone(after(THREE, (20, 3)).full_step(1))
-        self.assertEqual(after(THREE, (40, 1)).full_step(0), 2)
-        self.assertEqual(after(THREE, (40, 6)).full_step(0), 0)
-        self.assertEqual(after(THREE, (40, 6)).full_step(3), 1)
+    def test_the_full_steps(self):
+        self.assertEqual(Counts(THREE).full_steps(0), [])
+        self.assertEqual(after(THREE, (20, 2)).full_steps(0), [])
+        self.assertEqual(after(THREE, (20, 3)).full_steps(0), [1])
+        self.assertEqual(after(THREE, (20, 3)).full_steps(1), [])
+        self.assertEqual(after(THREE, (40, 1)).full_steps(0), [2])
+        self.assertEqual(after(THREE, (40, 6)).full_steps(0), [0, 1, 2])
+        self.assertEqual(after(THREE, (40, 6)).full_steps(3), [1, 2])
+        self.assertEqual(after(THREE, (40, 6)).full_steps(5), [2])
 
     def test_no_longer_full(self):
         counts = after(THREE, (40, 4))

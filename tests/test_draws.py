@@ -5,8 +5,8 @@ import random
 import unittest
 
 from fuseboard.boards import guards_of
-from fuseboard.draws import awake, draws, fed, held, loud, rest
-from fuseboard.errors import NoPlace
+from fuseboard.draws import awake, draws, fed, held, loud, quiet_rest, rest
+from fuseboard.errors import Loud, NoPlace
 from tests import plain
 from tests.plain import GREATEST, HOUSE, ODD_THINGS, TOP, chain
 
@@ -226,6 +226,12 @@ class LoudBoards(unittest.TestCase):
             board = plain.small_board(rng)
             names = plain.awake(board, plain.draws(board, [], {load[0]: load[3] for load in board[1] if load[4]}))
             self.assertEqual(loud(board), names[0] if names else None)
+            if names:
+                with self.assertRaises(Loud) as caught:
+                    quiet_rest(board)
+                self.assertEqual(caught.exception.guard, names[0])
+            else:
+                self.assertEqual(quiet_rest(board), rest(board))
 
 
 if __name__ == "__main__":

@@ -2,7 +2,7 @@
 
 import unittest
 
-from fuseboard.kinds import is_name, is_number
+from fuseboard.kinds import is_name, is_number, is_whole
 
 
 class Numbers(unittest.TestCase):
@@ -21,6 +21,16 @@ class Numbers(unittest.TestCase):
     def test_things_of_other_kinds(self):
         for thing in (None, "", "1", b"1", 1.0, 1j, (), (1,), [], [1], {}, {1: 1}, {1}, object(), int):
             self.assertIs(is_number(thing), False)
+
+
+class WholeNumbers(unittest.TestCase):
+    def test_of_any_size(self):
+        for thing in (0, 1, -1, 10 ** 60, -10 ** 70, 10 ** 5000):
+            self.assertIs(is_whole(thing), True)
+
+    def test_other_things(self):
+        for thing in (True, False, None, "", "1", b"1", 1.0, 1j, (), (1,), [], [1], {}, {1: 1}, {1}, object(), int):
+            self.assertIs(is_whole(thing), False)
 
 
 class Names(unittest.TestCase):
