@@ -10,8 +10,9 @@ def lets_by(board, stuck, events, upto, thing):
         return False
     run = Run(board, stuck)
     for row in thing:
-        if not is_stretch(row) or row[1] > upto or not goes_so(run, events, row):
+        if not is_stretch(row) or not goes_so(run, events, row):
             return False
+    # A run doesn't go back: of a stretch beyond upto it is told here, too.
     return run.turn() == upto
 
 

@@ -57,6 +57,17 @@ def small_board(rng, most_guards=6, most_loads=5, most=6):
     return tuple(guards), tuple(loads)
 
 
+def pair_board(wait=0, low_curve=((10, 6), (40, 2)), delays=(0, 0)):
+    """A top and a guard low under it; by faults at low top is awake from 15 on, low with this curve from 7 on."""
+    guards = (("top", None, ((20, 9), (30, 4), (60, 1)), delays[0], wait), ("low", "top", low_curve, delays[1], 77))
+    return guards, (("lamp", "low", (), 3, True), ("fan", "top", (), 2, True), ("stove", "low", (), 70, False))
+
+
+def noisy(board):
+    """A board with a load more, by which the last guard and those over it are awake at rest."""
+    return board[0], board[1] + (("noise", board[0][-1][0], (), 10 ** 6, True),)
+
+
 def small_and_large(rng, great):
     """A board of small numbers, and the same with all turns so many times as great."""
     # Without waits no counts are full ahead of an opening, so a run's turns grow just like the board's.
@@ -74,6 +85,32 @@ def small_curve(rng, most):
     draws = sorted(rng.sample(range(1, 2 * most + 2), many))
     turns = sorted(rng.sample(range(1, 10), many), reverse=True)
     return tuple(zip(draws, turns))
+
+
+# Places deep in lists and tuples of tuples.
+
+def paths(thing, ahead=()):
+    """All places in a list or tuple, however deep, that of the whole ahead."""
+    found = [ahead]
+    if isinstance(thing, (list, tuple)):
+        for at, part in enumerate(thing):
+            found += paths(part, ahead + (at,))
+    return found
+
+
+def at_path(thing, path):
+    for at in path:
+        thing = thing[at]
+    return thing
+
+
+def put(thing, path, part):
+    """A list or tuple with another part at a place deep in it."""
+    if not path:
+        return part
+    parts = list(thing)
+    parts[path[0]] = put(parts[path[0]], path[1:], part)
+    return parts if isinstance(thing, list) else tuple(parts)
 
 
 # Points 9, 11 and 12.
@@ -341,3 +378,46 @@ def blind(board, most):
                     found.append((guard[0], upper, greatness))
                     break
     return found
+
+
+# Points 28 and 29.
+
+def rows(board, most):
+    """The row of each place."""
+    drawn = {**rest(board), **{load[0]: load[3] if load[4] else 0 for load in board[1]}}
+    noisy = awake(board, rest(board))
+    found = {}
+    for place in places(board):
+        fault = None if noisy else astray(board, place, most)
+        verdict = ("awake", noisy[0]) if noisy else ("parted",) if fault is None else ("not", *fault)
+        found[place] = drawn[place], verdict
+    return found
+
+
+def changed(board, change):
+    """The board behind a change."""
+    guards, loads = [list(guard) for guard in board[0]], [list(load) for load in board[1]]
+    for row in guards + loads:
+        if row[0] == change[1]:
+            if change[0] in ("on", "off"):
+                row[4] = change[0] == "on"
+            if change[0] == "move":
+                row[1] = change[2]
+            if change[0] == "load":
+                row[2:4] = change[2:]
+            if change[0] == "guard":
+                row[2:] = change[2:]
+    return tuple(map(tuple, guards)), tuple(map(tuple, loads))
+
+
+def some_change(rng, board, most=4):
+    """A change by chance; of a guard where there are no loads."""
+    word = rng.choice(("on", "off", "move", "load", "guard", "guard"))
+    if word == "guard" or not board[1]:
+        return ("guard", rng.choice(board[0])[0], small_curve(rng, most), rng.choice((0, 1, 5)), rng.choice((0, 2, 6)))
+    load = rng.choice(board[1])[0]
+    if word == "move":
+        return word, load, rng.choice(board[0])[0]
+    if word == "load":
+        return word, load, tuple((rng.randint(1, 3), rng.randint(0, 9)) for _ in range(rng.randint(0, 4))), rng.randint(0, 3)
+    return word, load

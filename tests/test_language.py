@@ -128,6 +128,27 @@ class Modules(unittest.TestCase):
                     self.assertIn(side.value, (None, True, False))
 
 
+class Tables(unittest.TestCase):
+    def test_tables_of_module_level_are_only_read(self):
+        for path, tree in trees():
+            tables = {target.id for node in tree.body if isinstance(node, ast.Assign) for target in node.targets
+                      if isinstance(node.value, (ast.Dict, ast.List))}
+            for node in ast.walk(tree):
+                for part in ast.iter_child_nodes(node):
+                    if isinstance(part, ast.Name) and isinstance(part.ctx, ast.Load) and part.id in tables:
+                        read = (isinstance(node, ast.Subscript) and isinstance(node.ctx, ast.Load)
+                                or isinstance(node, ast.Attribute) and node.attr == "get"
+                                or isinstance(node, ast.Compare) and part in node.comparators)
+                        self.assertTrue(read, (path.name, part.lineno))
+
+    def test_tables_have_no_lists_or_dicts_in_them(self):
+        for path, tree in trees():
+            for node in tree.body:
+                if isinstance(node, ast.Assign):
+                    inner = [part for part in ast.walk(node.value) if part is not node.value]
+                    self.assertFalse([part for part in inner if isinstance(part, (ast.Dict, ast.List, ast.Set))], path.name)
+
+
 class Names(unittest.TestCase):
     def test_no_other_builtin_is_used(self):
         for name, node in nodes(ast.Name):

@@ -6,7 +6,8 @@ import unittest
 from fuseboard.looker import lets_by
 from fuseboard.papers import paper_of
 from tests import plain
-from tests.plain import GREATEST, HOUSE, ODD_THINGS, TOO_GREAT, small_board, some_events, some_stuck
+from tests.plain import (GREATEST, HOUSE, ODD_THINGS, TOO_GREAT, at_path, paths, put, small_board, some_events,
+                         some_stuck)
 
 ALONE = ((("top", None, ((10, 4), (20, 2)), 1, 0),), ())
 FAR = ((10 ** 9, 10 ** 9),)
@@ -86,30 +87,6 @@ def waiting_case(rng):
     events = [(turn, ("fault", "low", rng.randint(1, 12))) for turn in turns[:3]]
     events += [(turns[3], ("fault", "low", 0)), (turns[3], ("fault", "top", rng.randint(1, 12)))]
     return Case(board, None, events, rng.randint(turns[3] + 1, 14))
-
-
-def put(thing, path, part):
-    """A list or tuple of tuples with another part at a place deep in it."""
-    if not path:
-        return part
-    parts = list(thing)
-    parts[path[0]] = put(parts[path[0]], path[1:], part)
-    return parts if isinstance(thing, list) else tuple(parts)
-
-
-def paths(thing, ahead=()):
-    """All places in a list or tuple of tuples, that of the whole ahead."""
-    found = [ahead]
-    if isinstance(thing, (list, tuple)):
-        for at, part in enumerate(thing):
-            found += paths(part, ahead + (at,))
-    return found
-
-
-def at_path(thing, path):
-    for at in path:
-        thing = thing[at]
-    return thing
 
 
 def bent_part(rng, part):

@@ -6,34 +6,21 @@ import unittest
 from fuseboard.errors import Loud
 from fuseboard.pairs import blind, pairs_of
 from tests import plain
-from tests.plain import GREATEST, chain, quiet_board
-
-LOADS = (("lamp", "low", (), 3, True), ("fan", "top", (), 2, True), ("stove", "low", (), 70, False))
-
-
-def pair(wait=0, low_curve=((10, 6), (40, 2)), delays=(0, 0)):
-    """A top and a guard under it; top is awake from a fault of 15 on, low from one of 7 on."""
-    return ((("top", None, ((20, 9), (30, 4), (60, 1)), delays[0], wait), ("low", "top", low_curve, delays[1], 77)), LOADS)
-
-
-def noisy(board):
-    """The board with a load more, by which the last guard and those over it are awake at rest."""
-    return board[0], board[1] + (("noise", board[0][-1][0], (), 10 ** 6, True),)
-
+from tests.plain import GREATEST, chain, noisy, pair_board, quiet_board
 
 class PairsOf(unittest.TestCase):
     def test_a_pair(self):
         # From 15 on 6 and 9 turns, from 25 on 6 and 4, from 37 on 2 and 4, from 55 on 2 and 1.
-        self.assertEqual(pairs_of(pair(), 14), [])
-        self.assertEqual(pairs_of(pair(), 15), [("low", "top", -2, 15)])
-        self.assertEqual(pairs_of(pair(), 24), [("low", "top", -2, 15)])
-        self.assertEqual(pairs_of(pair(), 25), [("low", "top", 3, 25)])
-        self.assertEqual(pairs_of(pair(), GREATEST), [("low", "top", 3, 25)])
+        self.assertEqual(pairs_of(pair_board(), 14), [])
+        self.assertEqual(pairs_of(pair_board(), 15), [("low", "top", -2, 15)])
+        self.assertEqual(pairs_of(pair_board(), 24), [("low", "top", -2, 15)])
+        self.assertEqual(pairs_of(pair_board(), 25), [("low", "top", 3, 25)])
+        self.assertEqual(pairs_of(pair_board(), GREATEST), [("low", "top", 3, 25)])
 
     def test_the_uppers_wait_where_it_is_held(self):
-        self.assertEqual(pairs_of(pair(2), 99), [("low", "top", 1, 25)])
-        self.assertEqual(pairs_of(pair(3), 99), [("low", "top", 0, 25)])
-        self.assertEqual(pairs_of(pair(10), 99), [("low", "top", -7, 25)])
+        self.assertEqual(pairs_of(pair_board(2), 99), [("low", "top", 1, 25)])
+        self.assertEqual(pairs_of(pair_board(3), 99), [("low", "top", 0, 25)])
+        self.assertEqual(pairs_of(pair_board(10), 99), [("low", "top", -7, 25)])
         # Mid isn't awake, so it doesn't hold top, though low is.
         guards = (("top", None, ((5, 3),), 0, 9), ("mid", "top", ((8, 2),), 0, 9), ("low", "mid", ((4, 6),), 0, 0))
         self.assertEqual(pairs_of((guards, ()), 7), [("low", "top", 4, 5)])
@@ -42,24 +29,24 @@ class PairsOf(unittest.TestCase):
     def test_the_least_greatness_of_the_greatest_lack(self):
         # From 15 on 5 and 9 turns, from 25 on 5 and 4, from 37 on 4 and 4, from 55 on 4 and 1, from 97 on 1 and 1.
         curve = ((10, 5), (40, 4), (100, 1))
-        self.assertEqual(pairs_of(pair(0, curve), 54), [("low", "top", 2, 25)])
-        self.assertEqual(pairs_of(pair(0, curve), 55), [("low", "top", 4, 55)])
-        self.assertEqual(pairs_of(pair(0, curve), 999), [("low", "top", 4, 55)])
+        self.assertEqual(pairs_of(pair_board(0, curve), 54), [("low", "top", 2, 25)])
+        self.assertEqual(pairs_of(pair_board(0, curve), 55), [("low", "top", 4, 55)])
+        self.assertEqual(pairs_of(pair_board(0, curve), 999), [("low", "top", 4, 55)])
         # The same lack twice, less between.
         curve = ((10, 5), (40, 2))
-        self.assertEqual(pairs_of(pair(0, curve), 999), [("low", "top", 2, 25)])
+        self.assertEqual(pairs_of(pair_board(0, curve), 999), [("low", "top", 2, 25)])
 
     def test_below_nought(self):
-        self.assertEqual(pairs_of(pair(0, ((10, 2), (18, 1))), 15), [("low", "top", -7, 15)])
-        self.assertEqual(pairs_of(pair(GREATEST), 99), [("low", "top", 3 - GREATEST, 25)])
+        self.assertEqual(pairs_of(pair_board(0, ((10, 2), (18, 1))), 15), [("low", "top", -7, 15)])
+        self.assertEqual(pairs_of(pair_board(GREATEST), 99), [("low", "top", 3 - GREATEST, 25)])
 
     def test_a_lower_that_meets_no_step(self):
-        self.assertEqual(pairs_of(pair(0, ((60, 2),)), 56), [])
-        self.assertEqual(pairs_of(pair(0, ((60, 2),)), 57), [("low", "top", 2, 57)])
+        self.assertEqual(pairs_of(pair_board(0, ((60, 2),)), 56), [])
+        self.assertEqual(pairs_of(pair_board(0, ((60, 2),)), 57), [("low", "top", 2, 57)])
 
     def test_own_delays_have_no_say(self):
         for delays in ((0, 9), (9, 0), (GREATEST, 1), (5, GREATEST), (10 ** 80, 10 ** 70)):
-            self.assertEqual(pairs_of(pair(0, delays=delays), 99), [("low", "top", 3, 25)])
+            self.assertEqual(pairs_of(pair_board(0, delays=delays), 99), [("low", "top", 3, 25)])
 
     def test_by_the_lower_then_the_nearest_upper(self):
         guards = (*chain(3, ((5, 2),)), ("d", None, ((5, 2),), 0, 0), ("e", "b", ((5, 2),), 0, 0), ("f", "d", ((5, 1),), 0, 0))
@@ -90,26 +77,26 @@ class PairsOf(unittest.TestCase):
 
     def test_loud(self):
         with self.assertRaises(Loud) as caught:
-            pairs_of(noisy(pair()), 9)
+            pairs_of(noisy(pair_board()), 9)
         self.assertEqual(caught.exception.guard, "top")
         with self.assertRaises(Loud) as caught:
             pairs_of(((("other", None, ((9, 9),), 0, 0), ("top", None, ((1, 1),), 0, 0)), (("a", "top", (), 1, True),)), 9)
         self.assertEqual(caught.exception.guard, "top")
 
     def test_a_list_of_the_askers_own(self):
-        pairs_of(pair(), 99).clear()
-        self.assertEqual(pairs_of(pair(), 99), [("low", "top", 3, 25)])
+        pairs_of(pair_board(), 99).clear()
+        self.assertEqual(pairs_of(pair_board(), 99), [("low", "top", 3, 25)])
 
 
 class BlindPairs(unittest.TestCase):
     def test_a_pair(self):
         # Top is awake from 15 on, low from 7 on; and from 16 on; and from 15 on.
-        self.assertIsNone(blind(pair(), GREATEST))
-        self.assertIsNone(blind(pair(0, ((19, 6),)), 14))
-        self.assertEqual(blind(pair(0, ((19, 6),)), 15), ("low", "top", 15))
-        self.assertEqual(blind(pair(0, ((19, 6),)), 16), ("low", "top", 15))
-        self.assertEqual(blind(pair(0, ((19, 6),)), GREATEST), ("low", "top", 15))
-        self.assertIsNone(blind(pair(0, ((18, 6),)), GREATEST))
+        self.assertIsNone(blind(pair_board(), GREATEST))
+        self.assertIsNone(blind(pair_board(0, ((19, 6),)), 14))
+        self.assertEqual(blind(pair_board(0, ((19, 6),)), 15), ("low", "top", 15))
+        self.assertEqual(blind(pair_board(0, ((19, 6),)), 16), ("low", "top", 15))
+        self.assertEqual(blind(pair_board(0, ((19, 6),)), GREATEST), ("low", "top", 15))
+        self.assertIsNone(blind(pair_board(0, ((18, 6),)), GREATEST))
 
     def test_the_first_pair_then_its_least_fault(self):
         # By faults at c first a is awake, then b, then c itself.
@@ -136,8 +123,8 @@ class BlindPairs(unittest.TestCase):
 
     def test_waits_and_own_delays_have_no_say(self):
         for wait, delays in ((0, (0, 9)), (GREATEST, (9, 0)), (5, (10 ** 80, 0))):
-            self.assertEqual(blind(pair(wait, ((19, 6),), delays), 15), ("low", "top", 15))
-            self.assertIsNone(blind(pair(wait, delays=delays), 99))
+            self.assertEqual(blind(pair_board(wait, ((19, 6),), delays), 15), ("low", "top", 15))
+            self.assertIsNone(blind(pair_board(wait, delays=delays), 99))
 
     def test_against_all_greatnesses(self):
         rng = random.Random(91)
@@ -157,7 +144,7 @@ class BlindPairs(unittest.TestCase):
         self.assertIsNone(blind(board, 10 ** 59 - 1))
 
     def test_loud(self):
-        for board in (noisy(pair()), noisy(pair(0, ((19, 6),)))):
+        for board in (noisy(pair_board()), noisy(pair_board(0, ((19, 6),)))):
             with self.assertRaises(Loud) as caught:
                 blind(board, 99)
             self.assertEqual(caught.exception.guard, "top")

@@ -7,37 +7,24 @@ from fuseboard.errors import Loud
 from fuseboard.maps import opening_of
 from fuseboard.parting import backed, parted
 from tests import plain
-from tests.plain import GREATEST, quiet_board, some_stuck
-
-LOADS = (("lamp", "low", (), 3, True), ("fan", "top", (), 2, True), ("stove", "low", (), 70, False))
-
-
-def pair(top_delay=0, top_wait=0, low_curve=((10, 6), (40, 2))):
-    """A top and a guard under it; top is awake from a fault of 15 on, low from one of 7 on."""
-    return (("top", None, ((20, 9), (30, 4), (60, 1)), top_delay, top_wait), ("low", "top", low_curve, 0, 0)), LOADS
-
-
-def noisy(board):
-    """The board with a load more, by which the last guard and those over it are awake at rest."""
-    return board[0], board[1] + (("noise", board[0][-1][0], (), 10 ** 6, True),)
-
+from tests.plain import GREATEST, noisy, pair_board, quiet_board, some_stuck
 
 class Parted(unittest.TestCase):
     def test_a_pair(self):
         # By faults from 25 on top opens in four turns, low in six, from 37 on in two; from 55 on top in one.
-        self.assertIsNone(parted(pair(), 24))
-        self.assertEqual(parted(pair(), 25), ("low", 25, ("top",)))
-        self.assertEqual(parted(pair(), GREATEST), ("low", 25, ("top",)))
-        self.assertEqual(parted(pair(2), 25), ("low", 25, ("top", "low")))
-        self.assertIsNone(parted(pair(3), GREATEST))
-        self.assertIsNone(parted(pair(0, 3), GREATEST))
-        self.assertEqual(parted(pair(0, 2), 99), ("low", 25, ("top", "low")))
-        self.assertEqual(parted(pair(0, 1, ((10, 4), (40, 2))), 99), ("low", 55, ("top", "low")))
+        self.assertIsNone(parted(pair_board(), 24))
+        self.assertEqual(parted(pair_board(), 25), ("low", 25, ("top",)))
+        self.assertEqual(parted(pair_board(), GREATEST), ("low", 25, ("top",)))
+        self.assertEqual(parted(pair_board(delays=(2, 0)), 25), ("low", 25, ("top", "low")))
+        self.assertIsNone(parted(pair_board(delays=(3, 0)), GREATEST))
+        self.assertIsNone(parted(pair_board(3), GREATEST))
+        self.assertEqual(parted(pair_board(2), 99), ("low", 25, ("top", "low")))
+        self.assertEqual(parted(pair_board(1, ((10, 4), (40, 2))), 99), ("low", 55, ("top", "low")))
 
     def test_a_guard_that_is_not_awake(self):
-        board = pair(9, 9, ((16, 1),))
+        board = pair_board(9, ((16, 1),), delays=(9, 0))
         self.assertIsNone(parted(board, GREATEST))
-        board = pair(9, 9, ((19, 1),))
+        board = pair_board(9, ((19, 1),), delays=(9, 0))
         self.assertIsNone(parted(board, 14))
         self.assertEqual(parted(board, 15), ("low", 15, ("top",)))
 
@@ -52,13 +39,13 @@ class Parted(unittest.TestCase):
 
     def test_stuck_ones(self):
         for stuck in (["top"], ("top", "top")):
-            self.assertIsNone(parted(pair(), GREATEST, stuck))
+            self.assertIsNone(parted(pair_board(), GREATEST, stuck))
         for stuck in (["low"], ("low", "low")):
-            self.assertIsNone(parted(pair(), GREATEST, stuck))
+            self.assertIsNone(parted(pair_board(), GREATEST, stuck))
         for stuck in (["low", "top"], ("top", "low", "top")):
-            self.assertIsNone(parted(pair(), GREATEST, stuck))
+            self.assertIsNone(parted(pair_board(), GREATEST, stuck))
         for stuck in (None, [], ()):
-            self.assertEqual(parted(pair(), 99, stuck), ("low", 25, ("top",)))
+            self.assertEqual(parted(pair_board(), 99, stuck), ("low", 25, ("top",)))
         three = ((("top", None, ((5, 1),), 0, 0), ("mid", "top", ((5, 2),), 0, 0), ("low", "mid", ((5, 9),), 0, 0)), ())
         self.assertEqual(parted(three, 9), ("mid", 5, ("top",)))
         self.assertEqual(parted(three, 9, ["low"]), ("mid", 5, ("top",)))
@@ -91,7 +78,7 @@ class Parted(unittest.TestCase):
     def test_loud(self):
         for stuck in (None, ["top"], ["low", "top"]):
             with self.assertRaises(Loud) as caught:
-                parted(noisy(pair()), 9, stuck)
+                parted(noisy(pair_board()), 9, stuck)
             self.assertEqual(caught.exception.guard, "top")
 
 
@@ -99,15 +86,15 @@ class Backed(unittest.TestCase):
     def test_a_pair(self):
         # Where low is stuck, top opens by a fault of 15 or more at low; nothing opens where top is stuck and a fault
         # comes at top itself.
-        self.assertEqual(backed(pair(), 6), [("top", None), ("low", None)])
-        self.assertEqual(backed(pair(), 7), [("top", None), ("low", ("low", 7))])
-        self.assertEqual(backed(pair(), 14), [("top", None), ("low", ("low", 7))])
-        self.assertEqual(backed(pair(), 15), [("top", ("top", 15)), ("low", ("low", 7))])
-        self.assertEqual(backed(pair(3), GREATEST), [("top", ("top", 15)), ("low", ("low", 7))])
+        self.assertEqual(backed(pair_board(), 6), [("top", None), ("low", None)])
+        self.assertEqual(backed(pair_board(), 7), [("top", None), ("low", ("low", 7))])
+        self.assertEqual(backed(pair_board(), 14), [("top", None), ("low", ("low", 7))])
+        self.assertEqual(backed(pair_board(), 15), [("top", ("top", 15)), ("low", ("low", 7))])
+        self.assertEqual(backed(pair_board(delays=(3, 0)), GREATEST), [("top", ("top", 15)), ("low", ("low", 7))])
 
     def test_backed_by_the_upper(self):
-        self.assertEqual(backed(pair(3, 0, ((18, 6),)), GREATEST), [("top", ("top", 15)), ("low", None)])
-        self.assertEqual(backed(pair(3, 0, ((17, 6),)), GREATEST), [("top", ("top", 15)), ("low", ("low", 14))])
+        self.assertEqual(backed(pair_board(0, ((18, 6),), delays=(3, 0)), GREATEST), [("top", ("top", 15)), ("low", None)])
+        self.assertEqual(backed(pair_board(0, ((17, 6),), delays=(3, 0)), GREATEST), [("top", ("top", 15)), ("low", ("low", 14))])
 
     def test_backed_by_the_lower(self):
         # Top opens ahead of low by each fault at low, and low's faults are then opened by low where top is stuck.
@@ -150,13 +137,13 @@ class Backed(unittest.TestCase):
 
     def test_loud(self):
         with self.assertRaises(Loud) as caught:
-            backed(noisy(pair()), 9)
+            backed(noisy(pair_board()), 9)
         self.assertEqual(caught.exception.guard, "top")
 
     def test_a_list_of_the_askers_own(self):
-        told = backed(pair(), 9)
+        told = backed(pair_board(), 9)
         told.clear()
-        self.assertEqual(len(backed(pair(), 9)), 2)
+        self.assertEqual(len(backed(pair_board(), 9)), 2)
 
 
 class GreatBoards(unittest.TestCase):
